@@ -1,0 +1,1 @@
+"""Bellows: compressing bytes, and keeping them in a log that survives crashes."""

@@ -1,0 +1,1 @@
+"""Checksums, step numbers and bits."""

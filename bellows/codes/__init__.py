@@ -1,0 +1,1 @@
+"""Prefix codes."""

@@ -1,0 +1,75 @@
+"""The names, arguments and kinds of values that the interface lists."""
+
+import importlib
+import inspect
+import unittest
+
+FUNCTIONS = {
+    "bellows.base.sums": {
+        "adler32": "(data, start=1)",
+        "crc32": "(data, start=0)",
+        "adler32_joined": "(first, second, size)",
+        "crc32_joined": "(first, second, size)",
+        "adler32_front": "(whole, second, size)",
+        "crc32_front": "(whole, second, size)",
+    },
+    "bellows.base.steps": {
+        "put_steps": "(number)",
+        "get_steps": "(data, at)",
+    },
+    "bellows.codes.canon": {
+        "weight": "(lengths)",
+        "codes": "(lengths)",
+        "is_complete": "(lengths)",
+        "is_oversubscribed": "(lengths)",
+    },
+}
+
+CLASSES = {
+    "bellows.base.bits": {
+        "BitWriter": {
+            "__init__": "(self)",
+            "put": "(self, value, width)",
+            "put_code": "(self, code, width)",
+            "count": "(self)",
+            "align": "(self)",
+            "data": "(self)",
+            "copy": "(self)",
+        },
+        "BitReader": {
+            "__init__": "(self, data, at=0, end=None)",
+            "take": "(self, width)",
+            "look": "(self, width)",
+            "place": "(self)",
+            "left": "(self)",
+            "align": "(self)",
+        },
+    },
+}
+
+
+class InterfaceTest(unittest.TestCase):
+    def test_functions_stand_in_their_modules_with_their_arguments(self):
+        for place, functions in FUNCTIONS.items():
+            module = importlib.import_module(place)
+            for name, signature in functions.items():
+                function = getattr(module, name)
+                self.assertTrue(inspect.isfunction(function), name)
+                self.assertEqual(function.__module__, place)
+                self.assertEqual(str(inspect.signature(function)), signature, name)
+
+    def test_classes_define_their_methods_themselves(self):
+        for place, classes in CLASSES.items():
+            module = importlib.import_module(place)
+            for name, methods in classes.items():
+                found = getattr(module, name)
+                self.assertTrue(inspect.isclass(found), name)
+                self.assertEqual(found.__module__, place)
+                for method, signature in methods.items():
+                    self.assertIn(method, vars(found), name)
+                    told = str(inspect.signature(vars(found)[method]))
+                    self.assertEqual(told, signature, f"{name}.{method}")
+
+
+if __name__ == "__main__":
+    unittest.main()
