@@ -23,6 +23,27 @@ FUNCTIONS = {
         "is_complete": "(lengths)",
         "is_oversubscribed": "(lengths)",
     },
+    "bellows.codes.shortest": {
+        "cost": "(lengths, counts)",
+        "shortest": "(counts, most)",
+        "certificate": "(counts, most)",
+        "check_lengths": "(counts, most, lengths, rows)",
+    },
+    "bellows.copies.symbols": {
+        "length_parts": "(length)",
+        "distance_parts": "(distance)",
+        "length_base": "(symbol)",
+        "distance_base": "(symbol)",
+    },
+    "bellows.copies.expand": {
+        "expand": "(tokens, dictionary=())",
+        "symbol_counts": "(tokens)",
+        "token_cost": "(token, letters, distances)",
+    },
+    "bellows.copies.parse": {
+        "parse": "(data, dictionary, letters, distances, window=32768)",
+        "check_parse": "(data, dictionary, letters, distances, window, tokens, ahead)",
+    },
 }
 
 CLASSES = {
@@ -43,6 +64,14 @@ CLASSES = {
             "place": "(self)",
             "left": "(self)",
             "align": "(self)",
+        },
+    },
+    "bellows.codes.reading": {
+        "Book": {
+            "__init__": "(self, lengths)",
+            "read": "(self, reader)",
+            "write": "(self, symbol, writer)",
+            "size": "(self, symbol)",
         },
     },
 }

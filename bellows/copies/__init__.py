@@ -1,0 +1,1 @@
+"""Tokens, their symbols, and how data is parsed into them."""
