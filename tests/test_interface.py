@@ -44,6 +44,36 @@ FUNCTIONS = {
         "parse": "(data, dictionary, letters, distances, window=32768)",
         "check_parse": "(data, dictionary, letters, distances, window, tokens, ahead)",
     },
+    "bellows.copies.finder": {
+        "common_length": "(history, first, second, most)",
+        "candidates": "(history, at, floor, window)",
+        "search": "(history, at, end, places, nice, longer_than)",
+    },
+    "bellows.inflate.grammar": {
+        "read_blocks": "(stream, start=0)",
+        "is_legal": "(blocks, start=0)",
+        "write_blocks": "(writer, blocks)",
+        "block_lengths": "(block)",
+        "block_tokens": "(block)",
+        "items_of": "(tokens)",
+    },
+    "bellows.inflate.whole": {
+        "inflate": "(stream, start=0, dictionary=(), limit=4096, window=32768)",
+    },
+    "bellows.inflate.machine": {
+        "resume": "(state, *, limit=4096, window=32768)",
+    },
+    "bellows.deflate.heads": {
+        "rows_of": "(lengths)",
+        "head_of": "(letters, distances)",
+        "head_size": "(head)",
+    },
+    "bellows.deflate.blocks": {
+        "block_size": "(way, tokens, data, at)",
+        "write_block": "(writer, way, tokens, data, is_last)",
+        "best_way": "(tokens, data, at)",
+        "dynamic_lengths": "(tokens)",
+    },
 }
 
 CLASSES = {
@@ -72,6 +102,32 @@ CLASSES = {
             "read": "(self, reader)",
             "write": "(self, symbol, writer)",
             "size": "(self, symbol)",
+        },
+    },
+    "bellows.copies.finder": {
+        "Chains": {
+            "__init__": "(self, window)",
+            "enter": "(self, history, until)",
+            "nearest": "(self, history, at, count)",
+            "forget": "(self, floor)",
+            "floor": "(self)",
+        },
+    },
+    "bellows.inflate.machine": {
+        "Inflater": {
+            "__init__": "(self, dictionary=(), *, limit=4096, window=32768)",
+            "feed": "(self, part, room=None)",
+            "position": "(self)",
+            "given": "(self)",
+            "owed": "(self)",
+            "sums": "(self)",
+            "ended": "(self)",
+            "waits": "(self)",
+            "rest": "(self)",
+            "close": "(self)",
+            "copy": "(self)",
+            "sync": "(self)",
+            "state": "(self)",
         },
     },
 }
