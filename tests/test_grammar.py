@@ -431,6 +431,9 @@ class LegalTest(Case):
                 (257, 1, low, zero + [(1, 0), (-1, 0)]),
                 (257, 1, low, zero + [(0, 0), (1, 0)]), (257, 2, low, zero[:1] + [(18, 108), (1, 0), (0, 0)]),
                 (258, 1, low, [(1, 0), (18, 127), (18, 106), (1, 0), (1, 0), (0, 0)]),
+                # Letters that are complete, but without 256; and a row of a symbol without a code.
+                (258, 1, low, [(1, 0), (18, 127), (18, 107), (1, 0), (0, 0)]),
+                (257, 1, low, [(18, 127), (18, 104), (17, 0), (1, 0), (0, 0)]),
                 (257, 3, low, zero + [(1, 0)] * 4)]:
             block = (2, 1, 0, 0, 0, [], head)
             self.check_not_legal([block], 0)

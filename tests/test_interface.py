@@ -74,6 +74,25 @@ FUNCTIONS = {
         "best_way": "(tokens, data, at)",
         "dynamic_lengths": "(tokens)",
     },
+    "bellows.deflate.borders": {
+        "least_division": "(tokens, data, places, at)",
+        "division_table": "(tokens, data, places, at)",
+        "check_division": "(tokens, data, places, at, division, table)",
+    },
+    "bellows.deflate.least": {
+        "deflate_least": "(data, dictionary=(), *, rounds=3, passes=1, grain=1024, window=32768)",
+        "plan_least": "(data, dictionary=(), *, rounds=3, passes=1, grain=1024, window=32768)",
+    },
+    "bellows.deflate.levels": {
+        "settings": "(level)",
+        "usable": "(copy, strategy)",
+        "run_at": "(history, at, end, floor)",
+    },
+    "bellows.wraps.zlibs": {
+        "zlib_read": "(text, *, dictionary=None, limit=4096)",
+        "zlib_whole": "(text, *, dictionary=None, limit=4096)",
+        "zlib_wrap": "(stream, data, *, dictionary=None, window=32768, level=2)",
+    },
 }
 
 CLASSES = {
@@ -130,6 +149,44 @@ CLASSES = {
             "state": "(self)",
         },
     },
+    "bellows.deflate.levels": {
+        "Parser": {
+            "__init__": "(self, history, at, floor, window)",
+            "extend": "(self, values)",
+            "step": "(self, numbers, strategy, bounded)",
+            "at": "(self)",
+            "front": "(self)",
+            "end": "(self)",
+            "floor": "(self)",
+            "held": "(self)",
+            "forget": "(self)",
+            "part": "(self, first, last)",
+            "twin": "(self)",
+        },
+    },
+    "bellows.deflate.machine": {
+        "Deflater": {
+            "__init__": "(self, level=6, strategy=0, window=32768, room=1024, before=())",
+            "feed": "(self, values)",
+            "flush": "(self, kind)",
+            "change": "(self, level, strategy)",
+            "tune": "(self, chain, nice, patience, good)",
+            "prime": "(self, value, count)",
+            "finish": "(self)",
+            "take": "(self, most=None)",
+            "ready": "(self)",
+            "report": "(self)",
+            "copy": "(self)",
+            "reset": "(self)",
+        },
+    },
+}
+
+
+# The kinds of flushes, and the strategies.
+NUMBERS = {
+    "bellows.deflate.levels": {"DEFAULT": 0, "FILTERED": 1, "HUFFMAN": 2, "RUNS": 3, "FIXED": 4},
+    "bellows.deflate.machine": {"NO": 0, "BLOCK": 1, "PARTIAL": 2, "SYNC": 3, "FULL": 4},
 }
 
 
@@ -142,6 +199,11 @@ class InterfaceTest(unittest.TestCase):
                 self.assertTrue(inspect.isfunction(function), name)
                 self.assertEqual(function.__module__, place)
                 self.assertEqual(str(inspect.signature(function)), signature, name)
+
+    def test_numbers(self):
+        for place, named in NUMBERS.items():
+            module = importlib.import_module(place)
+            self.assertEqual({name: getattr(module, name) for name in named}, named)
 
     def test_classes_define_their_methods_themselves(self):
         for place, classes in CLASSES.items():

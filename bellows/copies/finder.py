@@ -28,13 +28,15 @@ def candidates(history, at, floor, window):
 def search(history, at, end, places, nice, longer_than):
     """The copy `(length, distance)` at a position that the places give, (0, 0) if there is none."""
     limit = min(MOST_LENGTH, end - at)
+    if limit < LEAST_LENGTH:
+        return _NO_COPY
     kept = 0
     distance = 0
     for place in places:
         # A place can only give more than is kept if it also has the value behind that.
-        if distance == 0 or history[place + kept] == history[at + kept]:
+        if history[place + kept] == history[at + kept]:
             length = common_length(history, place, at, limit)
-            if distance == 0 or length > kept:
+            if length > kept:
                 kept = length
                 distance = at - place
         if kept >= min(nice, limit):

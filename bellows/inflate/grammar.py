@@ -171,15 +171,13 @@ def _is_possible_head(head):
 
 
 def _fill_exactly(rows, number_lengths, full_size):
-    """Whether rows can be stored and end as soon as their list has its full size."""
+    """Whether rows can be stored, and their list has its full size with the last one."""
     described = 0
     for index, (symbol, extra) in enumerate(rows):
         if not 0 <= symbol < len(number_lengths) or number_lengths[symbol] == 0:
             return False
         extra_bits, least = row_parts(symbol)
         if not 0 <= extra < 1 << extra_bits or (symbol == REPEAT_LAST and index == 0):
-            return False
-        if described >= full_size:
             return False
         described += least + extra
     return described == full_size

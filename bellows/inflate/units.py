@@ -41,7 +41,7 @@ def described_by(rows):
     """The list of code lengths that rows describe; the first row does not repeat."""
     lengths = []
     for row in rows:
-        lengths += _elements(row, lengths)
+        lengths += _described_by_row(row, lengths)
     return lengths
 
 
@@ -165,7 +165,7 @@ def _read_rows(reader, book, full_size):
     return rows
 
 
-def _elements(row, before):
+def _described_by_row(row, before):
     """The elements that a row describes behind those that are there before it."""
     symbol, extra = row
     if symbol < REPEAT_LAST:

@@ -1,0 +1,1 @@
+"""Headers before streams, and checksums after them."""
