@@ -104,6 +104,21 @@ def some_tokens(source):
     return tokens
 
 
+def some_stretches(source):
+    """Stretches that are best stored, best fixed, or as good in both ways; places between them."""
+    tokens = []
+    places = []
+    for way in source.choice([[1, 0, 1], [2, 1, 0, 1], [0, 1, 0], [source.randrange(3) for _ in range(4)]]):
+        if way == 0:
+            tokens += [(144 + 2 * source.randrange(56),) for _ in range(source.randint(30, 60))]
+        elif way == 1:
+            tokens += [(258, 1)] * source.randint(1, 6)
+        else:
+            tokens += [(source.randrange(144),) for _ in range(source.randint(1, 10))]
+        places.append(len(tokens))
+    return tokens, places
+
+
 def some_places(source, tokens, most):
     if not tokens:
         return [0]
@@ -114,23 +129,28 @@ def some_places(source, tokens, most):
 def cases(seed, many, most=4):
     source = numbers(seed)
     for _ in range(many):
-        tokens = some_tokens(source)
-        places = some_places(source, tokens, most)
+        if source.random() < 0.5:
+            tokens, places = some_stretches(source)
+        else:
+            tokens = some_tokens(source)
+            places = some_places(source, tokens, most)
         yield tokens, expand(tokens, DICTIONARY), places, source.choice([0, 0, source.randrange(30)])
 
 
 class DivisionTest(Case):
     def test_is_the_first_of_all_divisions(self):
-        many_blocks = 0
-        for tokens, data, places, at in cases(506, 60):
+        ways = set()
+        for tokens, data, places, at in cases(506, 120):
             sizes = Sizes(tokens)
             before = copy.deepcopy((tokens, data, places))
             expected = min(all_divisions(places), key=lambda one: order(sizes, one, at))
             found = least_division(tokens, data, places, at)
             self.assertEqual(found, expected)
             self.assertEqual((tokens, data, places), before)
-            many_blocks += len(found) > 1
-        self.assertGreater(many_blocks, 5)
+            ways.add(tuple(way for _, way in found))
+        # A stored block stands first, between others, and last.
+        self.assertGreaterEqual(ways, {(0,), (1,), (2,), (0, 1), (1, 0)})
+        self.assertTrue(any(0 in one[1:-1] for one in ways))
 
     def test_each_tie_is_decided(self):
         """Divisions that are equal in size, in blocks, and in places up to a block, are met."""
@@ -171,6 +191,19 @@ class DivisionTest(Case):
                     first, other = next((a, b) for a, b in zip(best[2], second[2]) if a != b)
                     ties.add("place" if first[0] != other[0] else "way")
         self.assertEqual(ties, {"place", "way"})
+
+    def test_fewer_blocks_come_before_a_greater_place(self):
+        # As many bits are taken by three blocks, of which the first one ends later.
+        tokens = [(144 + 37 * k % 112,) for k in range(42)] + [(17 * k,) for k in range(8)] + [(258, 1)]
+        tokens += [(144 + 41 * k % 112,) for k in range(51)] + [(258, 1)] * 5
+        places = [42, 50, 51, 102, 107]
+        sizes = Sizes(tokens)
+        for at in range(8):
+            expected = [(107, 1)] if at == 6 else [(50, 0), (107, 1)]
+            self.assertEqual(least_division(tokens, expand(tokens), places, at), expected)
+            self.assertEqual(min(all_divisions(places), key=lambda one: order(sizes, one, at)), expected)
+        three = [(51, 1), (102, 0), (107, 1)]
+        self.assertEqual(sizes.division(three, 0), sizes.division([(50, 0), (107, 1)], 0))
 
     def test_no_tokens(self):
         for at in range(9):
@@ -301,6 +334,22 @@ class CheckTest(Case):
                 self.assertIs(found, plain_check(sizes, places, at, one, table))
                 seen[found] += 1
         self.assertGreater(min(seen.values()), 3)
+
+    def test_the_position_counts_for_each_block(self):
+        # Where the last block begins decides whether it is stored or not.
+        for first, copies, last in ((38, 2, 36), (42, 2, 36), (49, 3, 35)):
+            tokens = [(144 + 37 * k % 112,) for k in range(first)] + [(258, 1)] * copies
+            tokens += [(144 + 41 * k % 112,) for k in range(last)]
+            data = expand(tokens)
+            places = [first, first + copies, first + copies + last]
+            sizes = Sizes(tokens)
+            for at in range(8):
+                table = division_table(tokens, data, places, at)
+                best = min(all_divisions(places), key=lambda one: order(sizes, one, at))
+                self.assertEqual(least_division(tokens, data, places, at), best)
+                for division in all_divisions(places):
+                    least = sizes.division(division, at) == sizes.division(best, at)
+                    self.assertIs(check_division(tokens, data, places, at, division, table), least)
 
     def test_a_division_of_equal_size_passes_too(self):
         # The check proves the least size, and not which of several divisions it is.

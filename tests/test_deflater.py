@@ -573,6 +573,11 @@ class OptionTest(Case):
         self.assertEqual(inflate(stream, 0, [1, 2, 3, 4, 5])[0], [1, 2, 3, 4, 5])
         self.assertEqual(block_tokens(read_blocks(whole([1, 2, 3], 6, 0, 2, 9, [1, 2, 3]))[0][0]),
                          [(1,), (2,), (3,)])
+        before.append(8)
+        self.assertEqual((deflater.report()["fed"], deflater.report()["floor"]), (5, -5))
+        deflater.reset()
+        deflater.feed([1, 2, 3, 4, 5])
+        self.assertEqual(finished(deflater), stream)
 
 
 class MethodTest(Case):
@@ -770,9 +775,10 @@ class MethodTest(Case):
         for value, count in ((0, 0), (1, 1)):
             self.assert_error(TooLate, 0, deflater.prime, value, count)
         self.assertEqual(deflater.report()["bits"], 3)
-        deflater = Deflater()
-        deflater.feed([1, 2, 3])
-        self.assert_error(TooLate, 3, deflater.prime, 0, 0)
+        for values in ([1], [1, 2, 3]):
+            deflater = Deflater()
+            deflater.feed(values)
+            self.assert_error(TooLate, len(values), deflater.prime, 0, 0)
         deflater = Deflater()
         deflater.flush(PARTIAL)
         self.assert_error(TooLate, 0, deflater.prime, 0, 0)

@@ -669,6 +669,13 @@ class SyncTest(Case):
             self.assertEqual(decoder.state(), (72, 0, [], 1, 0))
             self.assertEqual(decoder.feed(bytes_of(self.second)), [3] * 4)
 
+    def test_the_search_begins_behind_every_bit_of_a_byte(self):
+        for bit in range(8):
+            decoder = resume((1000 + bit, 0, [], 1, 0))
+            decoder.feed(MARKER + MARKER, 0)
+            self.assertIs(decoder.sync(), True)
+            self.assertEqual(decoder.position(), 1032 if bit == 0 else 1064)
+
     def test_more_zeros_before_a_marker(self):
         decoder = Inflater()
         decoder.sync()

@@ -262,6 +262,21 @@ class LanguageTest(unittest.TestCase):
             if name.startswith("__"):
                 self.assertIn(name, SPECIAL_METHODS)
 
+    def test_no_name_is_a_method_and_an_attribute(self):
+        methods = {part.name for _, tree in trees() for node in ast.walk(tree)
+                   if isinstance(node, ast.ClassDef) for part in functions_of(node)}
+        stored = {name for _, tree in trees() for name in stored_attributes(tree)}
+        # The document asks for errors with an attribute, and a parser with a method of this name.
+        self.assertLessEqual(methods & stored, {"at"})
+
+    @for_each_file
+    def test_stars_stand_before_names(self, path, tree):
+        for node in ast.walk(tree):
+            if isinstance(node, ast.Call):
+                for one in node.args:
+                    if isinstance(one, ast.Starred):
+                        self.assertIsInstance(one.value, (ast.Name, ast.Attribute))
+
     @for_each_file
     def test_handlers_name_errors(self, path, tree):
         for node in ast.walk(tree):

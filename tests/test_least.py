@@ -134,6 +134,38 @@ class PlanTest(Case):
         self.assertGreaterEqual(chosen, {0, 1, 2})
         self.assertGreaterEqual(taken, {0, 1, 2})
 
+    def test_passes_over_several_blocks(self):
+        source = numbers(5092)
+        taken = 0
+        for k in range(14):
+            data = []
+            for letters in source.sample(["etaoinshrdlu", "ETAOINSHRDLU", "0123456789", "<>/='"], 3):
+                words = ["".join(source.choice(letters) for _ in range(source.choice([2, 3, 5])))
+                         for _ in range(60)]
+                data += list(" ".join(source.choice(words) for _ in range(90)).encode())
+            if k % 2:
+                data = some_bytes(source, 100) + data
+            grain = source.choice([100, 150, 300])
+            rounds = source.choice([1, 3])
+            plain = PlainPlan(data, [], rounds, 4, grain, 32768)
+            found = plan_least(data, rounds=rounds, passes=4, grain=grain)
+            self.assertEqual(found, (plain.tokens, plain.places, plain.division))
+            taken += plain.taken > 0 and len(plain.division) > 2
+        self.assertGreater(taken, 3)
+
+    def test_the_stream_begins_at_position_0(self):
+        # There a stored block takes 40 bits before its bytes, and a fixed one ten for all its nine.
+        for size in range(25, 36):
+            data = [144 + 37 * k % 112 for k in range(size)]
+            self.assertEqual(plan_least(data)[2], [(size, 0 if size >= 30 else 1)])
+
+    def test_the_defaults(self):
+        source = numbers(5093)
+        data = some_text(source, 1500)
+        expected = plan_least(data, [], rounds=3, passes=1, grain=1024, window=32768)
+        self.assertEqual(plan_least(data), expected)
+        self.assertEqual(deflate_least(data), deflate_least(data, (), rounds=3, passes=1, grain=1024))
+
     def check_stream(self, stream, plan, data, dictionary):
         tokens, places, division = plan
         self.assertEqual(expand(tokens, dictionary), data)
@@ -182,6 +214,15 @@ class PlanTest(Case):
         tokens, places, division = plan_least(data)
         self.assertEqual(division, [(256, 0)])
         self.assertEqual(deflate_least(data), [1, 0, 1, 255, 254] + data)
+
+    def test_blocks_of_all_ways(self):
+        source = numbers(5091)
+        noise = some_bytes(source, 300)
+        data = [7] * 600 + noise + [1, 2, 3] * 200
+        options = {"grain": 50, "window": 250}
+        tokens, places, division = plan_least(data, **options)
+        self.assertEqual([way for _, way in division][:3], [2, 0, 2])
+        self.check_stream(deflate_least(data, **options), (tokens, places, division), data, [])
 
     def test_new_lists(self):
         first = plan_least([1, 2, 3])

@@ -340,6 +340,19 @@ class StepTest(Case):
             self.assertEqual(parser.step(("waiting", chain, 258, 10, good), 0, True), second)
             self.assertEqual(parser.held(), (5, 19) if second == [(1,)] else (0, 0))
 
+    def test_how_many_candidates_good_leaves(self):
+        # The better copy is that of the second or the third candidate of the position 19.
+        third = [2, 3, 4, 5, 6, 91, 2, 3, 4, 92, 2, 3, 4, 93, 1, 2, 3, 94, 1, 2, 3, 4, 5, 6, 95]
+        second = [92, 91, 2, 3, 4, 5, 6, 94, 93, 99, 2, 3, 4, 93, 1, 2, 3, 94, 1, 2, 3, 4, 5, 6, 95]
+        first = [98, 91, 2, 3, 4, 5, 97, 94, 93, 99, 2, 3, 4, 5, 1, 2, 3, 94, 1, 2, 3, 4, 5, 6, 95]
+        for values, least in ((third, 12), (second, 8), (first, 1)):
+            for chain in (1, 2, 3, 4, 5, 7, 8, 9, 11, 12, 13, 15, 16, 20):
+                for good, enough in ((3, chain >= least), (4, chain >= least // 4)):
+                    parser = Parser(values, 18, 0, 32768)
+                    self.assertEqual(parser.step(("waiting", chain, 258, 10, good), 0, True), [])
+                    expected = [(1,)] if enough else [(3, 4)]
+                    self.assertEqual(parser.step(("waiting", chain, 258, 10, good), 0, True), expected)
+
     def test_copies_of_three_from_far_away(self):
         for distance, first in [(4096, [(3, 4096)]), (4097, [(1,)])]:
             values = [1, 2, 3] + [9] * (distance - 3) + [1, 2, 3, 8]

@@ -188,8 +188,9 @@ class ReadTest(Case):
             self.assert_error(TooMuch, 8 * (2 + 5), function, text, limit=0)
         data = [1] * 4096
         self.assertEqual(zlib_whole(written_by_zlib(data, 9)), data)
-        with self.assertRaises(TooMuch):
-            zlib_whole(written_by_zlib(data + [1], 9))
+        for function in (zlib_read, zlib_whole):
+            with self.assertRaises(TooMuch):
+                function(written_by_zlib(data + [1], 9))
         data = [1] * 65536
         self.assertEqual(zlib_whole(written_by_zlib(data, 9), limit=65536), data)
         # No point names an error for a limit that goes somewhat beyond this.

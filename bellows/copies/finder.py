@@ -21,8 +21,8 @@ def candidates(history, at, floor, window):
     """All earlier positions with the same three values, the nearest first."""
     if len(history) - at < LEAST_LENGTH:
         return []
-    places = reversed(range(max(floor, at - window), at))
-    return [place for place in places if _are_same(history, place, at)]
+    lowest = max(floor, at - window)
+    return [place for place in reversed(range(lowest, at)) if _are_same(history, place, at)]
 
 
 def search(history, at, end, places, nice, longer_than):
