@@ -751,6 +751,8 @@ class MethodTest(Case):
                     deflater = Deflater(level=1)
                     self.assertIsNone(deflater.prime(value, count))
                     self.assertEqual((deflater.report()["bits"], deflater.ready()), (count, 0))
+                    if count > 0:
+                        self.assert_error(TooLate, 0, deflater.prime, 0, 0)
                     deflater.feed([97] * 10)
                     stream = finished(deflater)
                     self.assertEqual(stream[0] % 2 ** count, value)

@@ -134,6 +134,22 @@ class PlanTest(Case):
         self.assertGreaterEqual(chosen, {0, 1, 2})
         self.assertGreaterEqual(taken, {0, 1, 2})
 
+    def test_the_best_of_all_rounds(self):
+        # Later lists are longer than the best one, or as long with other tokens.
+        for seed in (194, 225, 233, 237, 253, 258):
+            source = numbers(seed)
+            data = some_text(source, source.choice([60, 150, 300]))
+            plan = PlainPlan(data, [], 0, 0, 4096, 32768)
+            lists = [plan.tokens]
+            for _ in range(4):
+                lists.append(plan.parsed(plan.pieces[0], lengths_for(lists[-1])))
+            sizes = [min(block_size(way, tokens, data, 0) for way in (1, 2)) for tokens in lists]
+            best = sizes.index(min(sizes))
+            self.assertIn(best, (1, 2))
+            self.assertNotEqual(lists[best], lists[4])
+            self.assertLess(sizes[4], sizes[0])
+            self.assertEqual(plan_least(data, rounds=4, passes=0)[0], lists[best])
+
     def test_passes_over_several_blocks(self):
         source = numbers(5092)
         taken = 0
