@@ -41,7 +41,8 @@ def described_by(rows):
     """The list of code lengths that rows describe; the first row does not repeat."""
     lengths = []
     for row in rows:
-        lengths += _described_by_row(row, lengths)
+        last = lengths[-1] if lengths != [] else 0
+        lengths += _described_by_row(row, last)
     return lengths
 
 
@@ -165,12 +166,12 @@ def _read_rows(reader, book, full_size):
     return rows
 
 
-def _described_by_row(row, before):
-    """The elements that a row describes behind those that are there before it."""
+def _described_by_row(row, last):
+    """The elements that a row describes, where `last` is the one before them."""
     symbol, extra = row
     if symbol < REPEAT_LAST:
         return [symbol]
     size = row_parts(symbol)[1] + extra
     if symbol == REPEAT_LAST:
-        return [before[-1]] * size
+        return [last] * size
     return [0] * size
