@@ -154,17 +154,9 @@ class ReadTest(Case):
             bits, blocks = placed([block])
             self.assertEqual(read_blocks(bytes_of(bits)), (blocks, len(bits)))
             self.assertEqual(block_lengths(block), ([0] * 255 + [1, 1], [0, 0, 0]))
-        # All of 285 letters, and the distances after them, are 0, 8 or 4; 16 crosses the border.
-        rows = [(8, 0)] + [(16, 3)] * 42 + [(8, 0), (8, 0), (8, 0), (16, 2), (16, 3)]
-        lengths = [8] * 267
-        block = dynamic(257, 10, ([7, 0, 0, 0, 7], rows), [])
-        self.assertIs(is_legal([block]), False)
-        self.assertEqual(block_lengths(block), (lengths[:257], lengths[257:]))
 
     def test_a_repetition_that_crosses_the_border(self):
         # 16 letters of 4 bits and 16 distances of 4 bits; one row repeats the last letter's.
-        rows = [(4, 0), (16, 3), (16, 3), (4, 0), (4, 0), (18, 127), (18, 92), (0, 0), (0, 0), (0, 0),
-                (4, 0), (16, 3), (16, 3), (16, 1)]
         letters = [4] * 15 + [0] * 241 + [4]
         self.assertEqual(sum(one == 4 for one in letters), 16)
         rows = [(4, 0), (16, 3), (16, 3), (4, 0), (4, 0), (18, 127), (18, 92), (4, 0),
