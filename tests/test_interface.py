@@ -93,6 +93,35 @@ FUNCTIONS = {
         "zlib_whole": "(text, *, dictionary=None, limit=4096)",
         "zlib_wrap": "(stream, data, *, dictionary=None, window=32768, level=2)",
     },
+    "bellows.wraps.gzips": {
+        "gzip_read": "(text, *, limit=4096)",
+        "gzip_lead": "(text, *, limit=4096)",
+        "member_at": "(text, start, *, limit=4096)",
+        "gzip_member": "(header, stream, data)",
+        "gzip_header": "(header)",
+        "read_header": "(text, start)",
+        "plain_header": "()",
+    },
+    "bellows.ways.points": {
+        "outs": "(stream)",
+        "reach": "(outs, index)",
+        "choose": "(outs, count)",
+        "access_points": "(stream, count)",
+        "read_at": "(stream, points, start, count)",
+    },
+    "bellows.ways.join": {
+        "join": "(first, second, *, leaning=False)",
+        "cut": "(stream, start, stop)",
+        "independent": "(stream, start, stop)",
+        "gzip_merge": "(text)",
+        "zlib_join": "(first, second)",
+    },
+    "bellows.ways.recipe": {
+        "guess": "(data, index)",
+        "recipe": "(stream)",
+        "rebuild": "(data, recipe)",
+        "squeeze": "(stream)",
+    },
 }
 
 CLASSES = {
@@ -178,6 +207,32 @@ CLASSES = {
             "report": "(self)",
             "copy": "(self)",
             "reset": "(self)",
+        },
+    },
+    "bellows.wraps.feeding": {
+        "ZlibReader": {
+            "__init__": "(self, *, dictionary=None, limit=4096)",
+            "feed": "(self, part, room=None)",
+            "given": "(self)",
+            "owed": "(self)",
+            "ended": "(self)",
+            "waits": "(self)",
+            "close": "(self)",
+            "copy": "(self)",
+            "rest": "(self)",
+            "set_dictionary": "(self, dictionary)",
+            "head": "(self)",
+        },
+        "GzipReader": {
+            "__init__": "(self, *, limit=4096)",
+            "feed": "(self, part, room=None)",
+            "given": "(self)",
+            "owed": "(self)",
+            "ended": "(self)",
+            "waits": "(self)",
+            "close": "(self)",
+            "copy": "(self)",
+            "members": "(self)",
         },
     },
 }

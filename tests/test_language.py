@@ -47,6 +47,8 @@ CHANGING_METHODS = ["append", "extend", "insert", "pop", "remove", "clear", "rev
                     "update", "sort"]
 NEVER_NODES = (ast.Global, ast.AsyncFunctionDef, ast.AsyncFor, ast.AsyncWith, ast.Await, ast.Div,
                ast.MatMult, ast.Import)
+# Functions of the interface whose names it also gives to parameters beside them.
+ALSO_PARAMETERS = ["outs", "recipe"]
 SPECIAL_METHODS = ["__init__", "__eq__", "__repr__", "__str__", "__len__", "__enter__", "__exit__",
                    "__call__", "__iter__"]
 
@@ -228,7 +230,8 @@ class LanguageTest(unittest.TestCase):
         for name in bound_names(tree):
             self.assertRegex(name, r"^(_|_?[A-Za-z][A-Za-z0-9_]*)$")
             self.assertNotIn(name, NEVER_NAMES + NEVER_VARIABLES + classes + imported)
-            self.assertNotIn(name, functions, "a variable hides a function")
+            if name not in ALSO_PARAMETERS:
+                self.assertNotIn(name, functions, "a variable hides a function")
             self.assertFalse(hasattr(builtins, name), name)
         for name in functions + classes:
             self.assertNotIn(name, NEVER_NAMES + NEVER_VARIABLES)

@@ -1,10 +1,8 @@
 """The cheapest tokens at each index of data, on which the shortest parse rests."""
 
 from bellows.copies.expand import distance_cost, length_cost, literal_cost
+from bellows.copies.matches import Matches, distances_from_to, least_distance
 from bellows.copies.symbols import DISTANCE_COUNT, LEAST_LENGTH, MOST_LENGTH, distance_base
-
-# A set of distances is an integer here, whose bit `d` tells whether the distance `d` is in it: so
-# all distances are compared at once, which keeps long runs of equal bytes cheap.
 
 
 class CheapestTokens:
@@ -42,32 +40,14 @@ def _all_stretches(data, dictionary, distances, window):
     greater than in the stretch before it: the least cost that a distance has which gives such a
     copy, and the least distance with this cost.
     """
-    values = list(dictionary) + data
-    places = _places_from_end(values)
     groups = _distance_groups(distances, window)
     usable = sum([members for _, members in groups])
+    matches = Matches(list(dictionary) + data, usable)
     found = []
-    matches = []
-    for place in reversed(range(len(dictionary), len(values))):
-        same = places[values[place]] >> (len(values) - 1 - place)
-        matches = _matches_before(matches, usable, same)
-        found.append(_stretches(matches, groups))
+    for _ in range(len(data)):
+        found.append(_stretches(matches.before(), groups))
     found.reverse()
     return found
-
-
-def _places_from_end(values):
-    """For each value, the set of its places, where the last place is 0.
-
-    Counted like this, all places that lie before one of them are at their distances from it as soon
-    as the places behind it are shifted out.
-    """
-    places = {}
-    mark = 1
-    for value in reversed(values):
-        places[value] = places.get(value, 0) | mark
-        mark <<= 1
-    return places
 
 
 def _distance_groups(distances, window):
@@ -77,38 +57,18 @@ def _distance_groups(distances, window):
         extra_bits, base = distance_base(symbol)
         cost = distance_cost(base, distances)
         if cost is not None and base <= window:
-            after = min(window + 1, base + (1 << extra_bits))
-            groups[cost] = groups.get(cost, 0) | ((1 << after) - (1 << base))
+            last = min(window, base + (1 << extra_bits) - 1)
+            groups[cost] = groups.get(cost, 0) | distances_from_to(base, last)
     return [(cost, groups[cost]) for cost in sorted(groups)]
-
-
-def _matches_before(matches, usable, same):
-    """The matches at a place, of which `matches` are those at the next place.
-
-    A match `(longest, members)` is about the lengths that are at most `longest` and greater than in
-    the match before it; its members are the distances that give copies of these lengths. At the
-    distances in `same` stands the value of the place.
-    """
-    found = []
-    for longest, members in [(0, usable)] + matches:
-        kept = members & same
-        if kept == 0 or (found and found[-1][0] == MOST_LENGTH):
-            break
-        if found and found[-1][1] == kept:
-            found.pop()
-        found.append((min(longest + 1, MOST_LENGTH), kept))
-    return found
 
 
 def _stretches(matches, groups):
     found = []
     level = 0
     for longest, members in matches:
-        if longest >= LEAST_LENGTH:
-            # Longer matches have fewer members, so none of them is in a group passed before.
-            while members & groups[level][1] == 0:
-                level += 1
-            cost, group = groups[level]
-            nearest = members & group
-            found.append((longest, cost, (nearest & -nearest).bit_length() - 1))
+        # Longer matches have fewer members, so none of them is in a group passed before.
+        while members & groups[level][1] == 0:
+            level += 1
+        cost, group = groups[level]
+        found.append((longest, cost, least_distance(members & group)))
     return found

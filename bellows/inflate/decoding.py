@@ -15,6 +15,7 @@ _AT_BYTE = 2
 _AT_HEAD = 3
 _AT_ITEM = 4
 _AT_END = 5
+_PAUSED = 6
 
 _END_OF_BLOCK_UNIT = (256,)
 
@@ -40,7 +41,9 @@ class Decoder:
         self._fixed_books = None
 
     def read_unit(self, bits):
-        """The next unit; raises its error, and Truncated if it is incomplete. Executes nothing."""
+        """The next unit, None if there is none; raises its error, and Truncated if it is incomplete."""
+        if self._next == _AT_END or self._next == _PAUSED:
+            return None
         bits.move(self._position)
         if self._next == _AT_HEADER:
             return read_header(bits)
@@ -71,6 +74,10 @@ class Decoder:
             return self._produce(unit)
         return []
 
+    def pause(self):
+        """Have no next unit until a restart."""
+        self._next = _PAUSED
+
     def restart(self, position):
         """Go on at a position with a new block, before which nothing can be copied."""
         self._position = position
@@ -84,6 +91,10 @@ class Decoder:
     def has_ended(self):
         """Whether the last block has ended."""
         return self._next == _AT_END
+
+    def is_paused(self):
+        """Whether it waits for a restart."""
+        return self._next == _PAUSED
 
     def is_at_header(self):
         """Whether the next unit is the header of a block."""

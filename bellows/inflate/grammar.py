@@ -77,6 +77,22 @@ def items_of(tokens):
     return [_item_of(token) for token in tokens]
 
 
+def possible_size(block, at):
+    """The number of bits of a block that starts at a position, None if it is not possible there."""
+    kind, is_last, _, _, _, content, head = block
+    if not 0 <= is_last <= 1:
+        return None
+    if kind == STORED:
+        if not _is_possible_stored(content, head, at):
+            return None
+        return 3 + len(head) + 32 + 8 * len(content)
+    if kind == FIXED and head == []:
+        return _size_with_content(3, block)
+    if kind == DYNAMIC and _is_possible_head(head):
+        return _size_with_content(3 + head_size(head), block)
+    return None
+
+
 def _books(lengths):
     letters, distances = lengths
     return (Book(letters), Book(distances))
@@ -114,28 +130,12 @@ def _first_wrong(blocks, start):
     """The index at which a list of blocks fails to be legal, None if it is legal."""
     place = start
     for index, block in enumerate(blocks):
-        size = _possible_size(block, place)
+        size = possible_size(block, place)
         if size is None or (block[1] == 1 and index < len(blocks) - 1):
             return index
         place += size
     if blocks == [] or blocks[-1][1] == 0:
         return len(blocks)
-    return None
-
-
-def _possible_size(block, at):
-    """The number of bits of a block that starts at a position, None if it is not possible there."""
-    kind, is_last, _, _, _, content, head = block
-    if not 0 <= is_last <= 1:
-        return None
-    if kind == STORED:
-        if not _is_possible_stored(content, head, at):
-            return None
-        return 3 + len(head) + 32 + 8 * len(content)
-    if kind == FIXED and head == []:
-        return _size_with_content(3, block)
-    if kind == DYNAMIC and _is_possible_head(head):
-        return _size_with_content(3 + head_size(head), block)
     return None
 
 

@@ -1,0 +1,1 @@
+"""Working with streams that are there as a whole."""
