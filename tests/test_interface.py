@@ -122,6 +122,26 @@ FUNCTIONS = {
         "rebuild": "(data, recipe)",
         "squeeze": "(stream)",
     },
+    "bellows.ways.salvage": {
+        "starts": "(text)",
+        "salvage": "(text)",
+    },
+    "bellows.log.records": {
+        "write_member": "(first_entry, first_batch, batch_count, entries, level)",
+        "read_member": "(data, start)",
+        "read_header": "(data)",
+        "write_frames": "(entries)",
+        "read_frames": "(data)",
+    },
+    "bellows.log.mark": {
+        "write_slot": "(state)",
+        "read_state": "(data)",
+        "write_plan": "(segments)",
+        "read_plan": "(data)",
+    },
+    "bellows.log.disk": {
+        "drive": "(log, operation, disk)",
+    },
 }
 
 CLASSES = {
@@ -233,6 +253,37 @@ CLASSES = {
             "close": "(self)",
             "copy": "(self)",
             "members": "(self)",
+        },
+    },
+    "bellows.log.store": {
+        "Log": {
+            "__init__": "(self, *, full=1024, ratio=2)",
+            "begin": "(self, operation)",
+            "request": "(self)",
+            "answer": "(self, value)",
+            "result": "(self)",
+            "entry_range": "(self)",
+            "segments": "(self)",
+            "active": "(self)",
+        },
+    },
+    "bellows.log.disk": {
+        "Disk": {
+            "__init__": "(self)",
+            "perform": "(self, request)",
+            "set_room": "(self, count)",
+            "crash": "(self, choices)",
+            "files": "(self)",
+        },
+    },
+    "bellows.desk.session": {
+        "Session": {
+            "__init__": "(self, wrapper, level, strategy, window, dictionary)",
+            "act": "(self, action)",
+            "pending": "(self)",
+            "owed": "(self)",
+            "ended": "(self)",
+            "transcript": "(self)",
         },
     },
 }

@@ -2,6 +2,8 @@
 
 import ast
 import builtins
+import copy
+import functools
 import re
 import unittest
 import warnings
@@ -57,6 +59,7 @@ def sources():
     return sorted(path for path in PACKAGE.rglob("*.py"))
 
 
+@functools.cache
 def trees():
     return [(path, ast.parse(path.read_text(encoding="ascii"))) for path in sources()]
 
@@ -75,6 +78,16 @@ def stored_attributes(tree):
     """The names of the attributes that are assigned somewhere in a file or a class."""
     return [node.attr for node in ast.walk(tree)
             if isinstance(node, ast.Attribute) and isinstance(node.ctx, ast.Store)]
+
+
+@functools.cache
+def all_methods():
+    return {node.name for _, tree in trees() for node in functions_of(tree)}
+
+
+@functools.cache
+def all_stored():
+    return {name for _, tree in trees() for name in stored_attributes(tree)}
 
 
 def bound_names(tree):
@@ -104,6 +117,7 @@ def imports_of(tree):
 
 
 def without_comments_and_docstrings(path, tree):
+    tree = copy.deepcopy(tree)
     for node in ast.walk(tree):
         if isinstance(node, (ast.Module, ast.ClassDef, ast.FunctionDef)) and ast.get_docstring(node):
             node.body[0].value = ast.Constant(0)
@@ -239,15 +253,14 @@ class LanguageTest(unittest.TestCase):
 
     @for_each_file
     def test_builtins_and_attributes(self, path, tree):
-        methods = [node.name for _, other in trees() for node in functions_of(other)]
-        stored = [name for _, other in trees() for name in stored_attributes(other)]
+        known = all_methods() | all_stored() | set(METHODS)
         for name in stored_attributes(tree):
             self.assertNotIn(name, NEVER_ATTRIBUTES + NEVER_NAMES)
         for node in ast.walk(tree):
             if isinstance(node, ast.Name) and hasattr(builtins, node.id):
                 self.assertIn(node.id, CALLED_BUILTINS)
             if isinstance(node, ast.Attribute):
-                self.assertIn(node.attr, methods + stored + METHODS)
+                self.assertIn(node.attr, known)
 
     @for_each_file
     def test_methods(self, path, tree):

@@ -50,6 +50,14 @@ def zlib_head(dictionary, window, level):
     return [method, flags] + before
 
 
+def least_window(size):
+    """The least window of a zlib text that has at least this size."""
+    window = _LEAST_WINDOW
+    while window < size:
+        window *= 2
+    return window
+
+
 def zlib_tail(checksum):
     """The bytes of an Adler-32."""
     return highest_first(checksum, SUM_SIZE)

@@ -1,0 +1,1 @@
+"""A writer and a reader with a channel between them."""
