@@ -11,7 +11,7 @@ from bellows.log.records import read_member, write_frames, write_member
 from bellows.log.store import Log
 from checks import Case, numbers, some_bytes
 from plainlog import EMPTY, PlainLog, StrictDisk
-from test_records import made_member
+from test_records import made_member, plain_extra, plain_stream
 
 DONE = ("done", None)
 NO_ROOM = ("failed", "NoRoom", 0)
@@ -274,6 +274,16 @@ class CommitTest(RunTest):
         self.assertEqual(drive(log, ("read", 0, 31), disk), ("done", sum(batches, [])))
         self.assertEqual(frames_on(disk, log), write_frames(sum(batches, [])))
 
+    def test_the_level(self):
+        # Entries of which each level near 6 makes another stream.
+        source = numbers(813)
+        members = []
+        while len(set(map(tuple, members))) < 3:
+            entries = [some_bytes(source, 256, 2) for _ in range(15)]
+            members = [write_member(0, 0, 1, entries, level) for level in (5, 6, 7)]
+        log, disk = with_batches([entries])
+        self.assertEqual(dict(disk.disk.files())["log-00000001"], members[1])
+
 
 class SealTest(RunTest):
     def test_without_an_active_segment(self):
@@ -506,29 +516,51 @@ class TidyTest(RunTest):
         expected = write_member(0, 0, 1, entries, 9) + write_member(15, 1, 1, entries, 9)
         self.assertEqual(dict(disk.disk.files())["log-%08d" % log.segments()[0][0]], expected)
 
+    def disk_with_two_segments(self, files, entries):
+        """A disk with these files as sealed segments, which have as many entries and two batches each."""
+        plan = [(k + 1, k * entries, entries, 2 * k, 2, 0, len(files[k])) for k in range(2)]
+        disk = StrictDisk()
+        for name, content in [("log-00000001", files[0]), ("log-00000002", files[1]),
+                              ("plan-00000003", write_plan(plan)),
+                              ("mark", write_slot((1, 3, 0, 0, 0, 0, 2 * entries, 4, 4)))]:
+            disk.disk.perform(("write", name, 0, content))
+        return disk
+
     def test_a_merged_file_that_would_be_longer(self):
         # The members have streams that are shorter than those of level 9, and too many frames to be
         # packed together.
         source = numbers(8141)
-        batches = [[some_bytes(source, 256, 3) for _ in range(5)] for _ in range(2)]
+        batches = [[some_bytes(source, 256, 3) for _ in range(5)] for _ in range(4)]
         data = [write_frames(batch) for batch in batches]
-        files = [made_member((5 * k, 5, k, 1), deflate_least(data[k]), data[k]) for k in range(2)]
-        nine = [write_member(5 * k, k, 1, batches[k], 9) for k in range(2)]
-        self.assertLess(sum(map(len, files)), sum(map(len, nine)))
-        for first, joined in [(files[0], True), (nine[0], False)]:
-            second = files[1] if joined else nine[1]
-            plan = [(1, 0, 5, 0, 1, 0, len(first)), (2, 5, 5, 1, 1, 0, len(second))]
-            disk = StrictDisk()
-            for name, content in [("log-00000001", first), ("log-00000002", second), ("plan-00000003", write_plan(plan)),
-                                  ("mark", write_slot((1, 3, 0, 0, 0, 0, 10, 2, 4)))]:
-                disk.disk.perform(("write", name, 0, content))
+        least = [made_member((5 * k, 5, k, 1), deflate_least(data[k]), data[k]) for k in range(4)]
+        nine = [write_member(5 * k, k, 1, batches[k], 9) for k in range(4)]
+        self.assertLess(sum(map(len, least)), sum(map(len, nine)))
+        for members in (least, nine):
+            disk = self.disk_with_two_segments([members[0] + members[1], members[2] + members[3]], 10)
             log, disk = opened(disk)
             self.assertEqual(drive(log, ("tidy",), disk), DONE)
-            self.assertEqual(log.segments(), [(4, 0, 10, 0, 2, 1, len(first + second))])
-            self.assertEqual(dict(disk.disk.files())["log-00000004"], first + second)
+            self.assertEqual(log.segments(), [(4, 0, 20, 0, 4, 1, len(sum(members, [])))])
+            self.assertEqual(dict(disk.disk.files())["log-00000004"], sum(members, []))
             for again in (log, opened(disk)[0]):
-                self.assertEqual(drive(again, ("read", 3, 8), disk), ("done", sum(batches, [])[3:8]))
-                self.assertEqual(drive(again, ("read", 0, 10), disk), ("done", sum(batches, [])))
+                for start, stop in [(0, 20), (3, 8), (9, 11), (17, 18)]:
+                    self.assertEqual(drive(again, ("read", start, stop), disk),
+                                     ("done", sum(batches, [])[start:stop]))
+
+    def test_a_merged_file_of_the_same_size(self):
+        # The bits behind the end of a stream tell which of the two files is written.
+        batches = [[[k] * 256 for _ in range(7)] for k in range(4)]
+        members = []
+        for k, batch in enumerate(batches):
+            frames = write_frames(batch)
+            stream = plain_stream(frames, 9)
+            self.assertEqual(stream[-1] >> 7, 0)
+            members.append(made_member((7 * k, 7, k, 1), stream[:-1] + [stream[-1] + 128], frames))
+        disk = self.disk_with_two_segments([members[0] + members[1], members[2] + members[3]], 14)
+        log, disk = opened(disk)
+        self.assertEqual(drive(log, ("tidy",), disk), DONE)
+        merged = sum([write_member(7 * k, k, 1, batch, 9) for k, batch in enumerate(batches)], [])
+        self.assertEqual(len(merged), len(sum(members, [])))
+        self.assertEqual(dict(disk.disk.files())["log-00000004"], merged)
 
     def test_no_room_at_each_write(self):
         log, disk = three_segments()
@@ -750,13 +782,43 @@ class OpenTest(RunTest):
         self.other_state(lambda state: state[:2] + (0, 0, 0, 0, 6, 3) + state[8:])(disk.disk)
         self.assertEqual(drive(Log(), ("open",), disk), ("done", (0, 6)))
 
-    def test_a_member_that_is_longer_than_its_segment(self):
-        for index in (34, 30):
-            log, disk = with_batches([[[1]], [[2]]])
-            first = write_member(0, 0, 1, [[1]], 6)
-            other = write_member(0, 0, 1, [[1] * 200, [2] * 200], 6)
-            disk.disk.perform(("write", "log-00000001", 0, other[:len(first)]))
+    def with_header_size(self, size):
+        """Two members in the active segment, the second of which tells another size; and its place."""
+        log, disk = with_batches([[[1]], [[2]]])
+        place = len(write_member(0, 0, 1, [[1]], 6))
+        disk.disk.perform(("write", "log-00000001", place + 12, plain_extra(1, 1, 1, 1, size)))
+        return disk, place
+
+    def test_a_member_that_tells_a_wrong_size(self):
+        for change in (-1, 1, 5, 1000):
+            disk, place = self.with_header_size(len(write_member(1, 1, 1, [[2]], 6)) + change)
             self.assertEqual(drive(Log(), ("open",), disk), ("failed", "WrongLog", 1))
+        for size in (0, 10 ** 6):
+            disk, place = self.with_header_size(size)
+            disk.asked.clear()
+            self.assertEqual(drive(Log(), ("open",), disk), ("failed", "WrongLog", 1))
+            self.assertEqual(disk.asked[-1][:3], ("read", "log-00000001", place))
+
+    def test_a_member_that_leads_beyond_the_state(self):
+        for end in ((1, 2), (3, 0)):
+            log, disk = with_batches([[[1], [2]], [[3]]])
+            state = state_of(disk)
+            disk.disk.perform(("write", "mark", 64, write_slot(state[:6] + end + state[8:])))
+            disk.asked.clear()
+            self.assertEqual(drive(Log(), ("open",), disk), ("failed", "WrongLog", 1))
+            self.assertEqual(disk.asked[-1][:3], ("read", "log-00000001", 0))
+
+    def test_answers_are_copied(self):
+        log, disk = three_segments()
+        log = Log()
+        log.begin(("open",))
+        while log.request() is not None:
+            answer = disk.perform(log.request())
+            log.answer(answer)
+            if isinstance(answer, list):
+                answer.clear()
+        self.assertEqual(log.result(), ("done", (0, 7)))
+        self.assertEqual(drive(log, ("read", 0, 7), disk), ("done", [[k] for k in range(7)]))
 
     def test_any_mark_of_an_empty_log(self):
         for data in ([1], [77, 65, 82, 75] * 16, [0] * 128):
