@@ -76,6 +76,8 @@ class OutsTest(Case):
             self.assert_error(BadStored, 24, function, [1, 5, 0, 0, 0])
             for more in ([0], [1, 2, 3]):
                 self.assert_error(Extra, 16, function, [3, 0] + more)
+                # A stream that ends with its last byte, bit by bit.
+                self.assert_error(Extra, 40, function, [1, 0, 0, 255, 255] + more)
             # No dictionary stands before a stream.
             self.assert_error(TooFar, 11, function, bytes_of(placed([fixed_block([(1,), (257, 0, 1, 0)], 1)])[0]))
             # The errors of part 4 come before `Extra`.

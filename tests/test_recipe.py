@@ -382,6 +382,10 @@ class SqueezeTest(Case):
         self.assertLess(len(forms[0]), min(len(forms[1]), len(forms[2])))
         self.assertNotEqual(forms[0], forms[3])
         self.assertEqual(squeeze(stream), stream)
+        # The same behind another block, in the middle of a byte.
+        blocks = [fixed_block([(1,)]), read_blocks(stream)[0][0]]
+        stream = bytes_of(placed(blocks)[0])
+        self.assertEqual(squeeze(stream), stream)
 
     def test_ties_of_the_other_forms(self):
         # Stored and fixed: at position 0, n literals of 9 bits take 10 + 9 * n bits, and a stored
@@ -442,14 +446,15 @@ class SqueezeTest(Case):
         items = [(7,)] * 4 + [(285, 0, 0, 0)] * 254
         stream = bytes_of(placed([fixed_block(items, 1)])[0])
         self.assertEqual(inflated(squeeze(stream)), [7] * 65536)
-        # 65,536 literals in a block of their own codes: a stored block cannot hold them.
+        # A stored block can hold 65,535 literals, and not 65,536 of them.
         data = some_bytes(numbers(7144), 65536)
-        tokens = [(byte,) for byte in data]
-        writer = BitWriter()
-        write_block(writer, 1, tokens, data, 1)
-        found = squeeze(writer.data())
-        self.assertEqual([block[0] for block in read_blocks(found)[0]], [2])
-        self.assertEqual(inflated(found), data)
+        for size, kind in [(65535, 0), (65536, 2)]:
+            tokens = [(byte,) for byte in data[:size]]
+            writer = BitWriter()
+            write_block(writer, 1, tokens, data[:size], 1)
+            found = squeeze(writer.data())
+            self.assertEqual([block[0] for block in read_blocks(found)[0]], [kind])
+            self.assertEqual(inflated(found), data[:size])
 
 
 if __name__ == "__main__":

@@ -790,14 +790,15 @@ class OpenTest(RunTest):
         return disk, place
 
     def test_a_member_that_tells_a_wrong_size(self):
-        for change in (-1, 1, 5, 1000):
-            disk, place = self.with_header_size(len(write_member(1, 1, 1, [[2]], 6)) + change)
-            self.assertEqual(drive(Log(), ("open",), disk), ("failed", "WrongLog", 1))
-        for size in (0, 10 ** 6):
+        right = len(write_member(1, 1, 1, [[2]], 6))
+        disk, place = self.with_header_size(right - 1)
+        self.assertEqual(drive(Log(), ("open",), disk), ("failed", "WrongLog", 1))
+        for size in (0, right + 1, right + 5, 10 ** 6):
             disk, place = self.with_header_size(size)
             disk.asked.clear()
             self.assertEqual(drive(Log(), ("open",), disk), ("failed", "WrongLog", 1))
-            self.assertEqual(disk.asked[-1][:3], ("read", "log-00000001", place))
+            reads = [request[2] for request in disk.asked if request[:2] == ("read", "log-00000001")]
+            self.assertEqual(reads, [0, place])
 
     def test_a_member_that_leads_beyond_the_state(self):
         for end in ((1, 2), (3, 0)):

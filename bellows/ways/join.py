@@ -21,7 +21,7 @@ def join(first, second, *, leaning=False):
     blocks, data, end = read_stream(first)
     before = data if leaning else []
     more, _, _ = read_stream(second, before)
-    return _joined([(first, blocks, end), (second, more, 0)])
+    return _joined(first, blocks[-1][2], end, [(second, more)])
 
 
 def independent(stream, start, stop):
@@ -42,24 +42,21 @@ def cut(stream, start, stop):
         raise NotIndependent(reaching)
     writer = BitWriter()
     place_blocks(writer, stream, blocks[start:stop], True)
-    writer.align()
     return writer.data()
 
 
 def gzip_merge(text):
     """One member with the data of all members of a gzip text."""
     members = all_parts(text, MOST_LIMIT)
-    parts = []
+    streams = []
     crc = 0
     size = 0
     for _, at, data, after in members:
         tail = after - TAIL_SIZE
-        stream = text[at:tail]
-        blocks, _, end = read_stream(stream)
-        parts.append((stream, blocks, end))
+        streams.append(text[at:tail])
         crc = crc32_joined(crc, number_lowest_first(text[tail:tail + 4]), len(data))
         size += len(data)
-    return gzip_header(members[0][0]) + _joined(parts) + gzip_tail(crc, size)
+    return gzip_header(members[0][0]) + _all_joined(streams) + gzip_tail(crc, size)
 
 
 def zlib_join(first, second):
@@ -74,21 +71,24 @@ def zlib_join(first, second):
     return header[:HEAD_SIZE] + stream + zlib_tail(checksum)
 
 
-def _joined(parts):
-    """The stream that is joined of parts: tuples of a stream, its blocks and its end."""
-    first, blocks, end = parts[0]
-    if len(parts) == 1:
-        return first
+def _all_joined(streams):
+    """The stream that is joined of several ones, each of which is read only once."""
+    if len(streams) == 1:
+        return streams[0]
+    blocks, _, end = read_stream(streams[0])
+    others = [(stream, read_stream(stream)[0]) for stream in streams[1:]]
+    return _joined(streams[0], blocks[-1][2], end, others)
+
+
+def _joined(first, mark, end, others):
+    """The bits of a stream, with a 0 as the mark of its last block, and then the blocks of others."""
     writer = BitWriter()
     bits = ArrivingBits(first)
-    mark = blocks[-1][2]
     copy_bits(writer, bits, 0, mark)
     writer.put(0, 1)
     copy_bits(writer, bits, mark + 1, end)
-    for index, (stream, more, _) in enumerate(parts):
-        if index > 0:
-            place_blocks(writer, stream, more, index == len(parts) - 1)
-    writer.align()
+    for index, (stream, blocks) in enumerate(others):
+        place_blocks(writer, stream, blocks, index == len(others) - 1)
     return writer.data()
 
 

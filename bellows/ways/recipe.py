@@ -4,13 +4,13 @@ from bellows.base.bits import BitReader, BitWriter
 from bellows.copies.expand import token_size
 from bellows.copies.finder import candidates, search
 from bellows.copies.symbols import MOST_DISTANCE, MOST_LENGTH
-from bellows.deflate.blocks import block_size, write_block
+from bellows.deflate.blocks import block_size, stored_size, write_block
 from bellows.inflate.arriving import ArrivingBits
 from bellows.inflate.grammar import block_tokens
 from bellows.inflate.units import DYNAMIC, FIXED, STORED, token_of
 from bellows.ways.guessing import all_guesses, told_item
 from bellows.ways.rebuilding import Rebuilding
-from bellows.ways.streams import place_block, placed_size, read_stream, size_of_block
+from bellows.ways.streams import place_block, read_stream, size_of_block
 
 _MOST_STORED = 65535
 
@@ -55,7 +55,6 @@ def squeeze(stream):
         after = at + size_of_block(block)
         _put_shortest(writer, bits, block, data[at:after], int(index == len(blocks) - 1))
         at = after
-    writer.align()
     return writer.data()
 
 
@@ -93,7 +92,11 @@ def _recipe_of_items(items, guesses, at):
 def _put_shortest(writer, bits, block, data, is_last):
     """Append a block as it is, or in the first of the ways that take the fewest bits, if fewer."""
     tokens = block_tokens(block)
-    least = placed_size(block, writer.count())
+    kind, _, start, _, stop, _, _ = block
+    least = stop - start
+    if kind == STORED:
+        # Elsewhere, it may have another number of fill bits.
+        least = stored_size(len(data), writer.count())
     best = None
     for way in (STORED, FIXED, DYNAMIC):
         if way != STORED or len(data) <= _MOST_STORED:

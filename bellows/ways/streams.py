@@ -54,14 +54,6 @@ def place_block(writer, bits, block, is_last):
         copy_bits(writer, bits, start + _HEADER_SIZE, stop)
 
 
-def placed_size(block, at):
-    """The number of bits of a block that is placed at a position."""
-    kind, _, start, content_start, stop, _, _ = block
-    if kind == STORED:
-        return _HEADER_SIZE + -(at + _HEADER_SIZE) % 8 + _SIZES_SIZE + stop - content_start
-    return stop - start
-
-
 def copy_bits(writer, bits, start, stop):
     """Append the bits from one position up to another one."""
     bits.move(start)

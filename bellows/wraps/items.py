@@ -78,7 +78,6 @@ class ZlibItems:
     def use_dictionary(self, dictionary, bits):
         """Execute the item that needs the dictionary."""
         check_dictionary(read_sum(bits.bytes_from(0), HEAD_SIZE), dictionary)
-        self._dictionary = dictionary
         self._begin_stream(HEAD_SIZE + SUM_SIZE, dictionary)
 
     def twin(self):
