@@ -401,6 +401,29 @@ class SqueezeTest(Case):
             self.assertGreater(sizes[0], max(sizes[1:3]))
             self.assertEqual(squeeze(stream)[0] >> 1 & 3, kind)
 
+    def test_a_tie_of_the_block_as_it_is_and_a_stored_one(self):
+        # The block as it is, a fixed one, has as many bits as a stored one.
+        items = [(value,) for value in numbers(7146).sample(range(144, 256), 30)]
+        stream = bytes_of(placed([fixed_block(items, 1)])[0])
+        sizes = [len(form) for form in self.forms(stream, 0, True, 0)]
+        self.assertEqual(sizes[0], sizes[1])
+        self.assertLess(sizes[0], sizes[3])
+        self.assertEqual(squeeze(stream), stream)
+
+    def test_a_tie_of_stored_and_dynamic(self):
+        source = numbers(7147)
+        ties = 0
+        while ties < 3:
+            values = source.sample(range(144, 256), source.randint(8, 20))
+            data = [source.choice(values) for _ in range(source.randint(15, 40))]
+            tokens = [(byte,) for byte in data]
+            sizes = [block_size(way, tokens, data, 0) for way in (0, 1, 2)]
+            if sizes[0] == sizes[2] < sizes[1]:
+                stream = self.long_dynamic(data)
+                self.assertEqual([len(form) for form in self.forms(stream, 0, True, 0)][1:], sizes)
+                self.assertEqual(squeeze(stream)[0] >> 1 & 3, 0)
+                ties += 1
+
     def test_a_tie_of_fixed_and_dynamic(self):
         ties = 0
         for first in range(1, 40):
